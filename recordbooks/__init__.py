@@ -1,0 +1,1 @@
+"""A store of records; recordbooks.desk.answers answers a list of calls."""

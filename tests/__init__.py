@@ -1,0 +1,1 @@
+"""Tests of the package, run from the top of the repository."""
