@@ -1,8 +1,11 @@
-"""The calls on books and on the whole store: 0 clear to 6 cut."""
+"""The calls on books and on the whole store: 0 clear to 6 cut, 20 tighten, 24 map, 27 counts."""
 
 from recordbooks.ranges import check_key, check_text, check_time, check_value
 from recordbooks.records import BY_ITSELF, NO_KEY, Record
-from recordbooks.refusals import ThereAlready
+from recordbooks.refusals import NotTight, ThereAlready
+from recordbooks.rows import with_rows
+from recordbooks.seen import last_seen
+from recordbooks.tightening import make_tight
 from recordbooks.transactions import lose_power
 from recordbooks.wording import books_of, first_fault, shown
 
@@ -25,12 +28,7 @@ def answer_books(store, reader):
 
 
 def answer_show(store, reader):
-    answer = [len(store.books)]
-    for book in store.books:
-        line = shown(book)
-        answer.append(len(line))
-        answer.extend(line)
-    return answer
+    return with_rows([len(store.books)], [shown(book) for book in store.books])
 
 
 def put_by_nobody(book, key, time, value):
@@ -76,6 +74,35 @@ def answer_cut(store, reader):
     return [count]
 
 
+def answer_tighten(store, reader):
+    book = store.book_at(reader.take_number())
+    if not book.is_tight:
+        raise NotTight()
+    return [sum([make_tight(part) for part in book.parts])]
+
+
+# By key, the value in the first part in which it has one.
+def values_of(book):
+    found = {}
+    for part in book.parts:
+        last = last_seen(part)
+        for key in last:
+            if last[key].value is not None and key not in found:
+                found[key] = last[key].value
+    return found
+
+
+def answer_map(store, reader):
+    book = store.book_at(reader.take_number())
+    found = values_of(book)
+    return with_rows([len(found)], [[key] + found[key] for key in sorted(found)])
+
+
+def answer_counts(store, reader):
+    records = sum([len(part.records_there()) for part in store.all_parts()])
+    return [len(store.books), len(store.senders), len(store.groups), records]
+
+
 BOOK_CALLS = {
     0: answer_clear,
     1: answer_books,
@@ -84,4 +111,7 @@ BOOK_CALLS = {
     4: answer_remove,
     5: answer_flush,
     6: answer_cut,
+    20: answer_tighten,
+    24: answer_map,
+    27: answer_counts,
 }

@@ -3,6 +3,7 @@
 from recordbooks.bookcalls import BOOK_CALLS
 from recordbooks.callreader import CallReader
 from recordbooks.groupcalls import GROUP_CALLS
+from recordbooks.partcalls import PART_CALLS
 from recordbooks.refusals import Refusal
 from recordbooks.sendercalls import SENDER_CALLS
 from recordbooks.store import Store
@@ -14,7 +15,9 @@ def answer_call(store, reader):
         return BOOK_CALLS[number](store, reader)
     if number in SENDER_CALLS:
         return SENDER_CALLS[number](store, reader)
-    return GROUP_CALLS[number](store, reader)
+    if number in GROUP_CALLS:
+        return GROUP_CALLS[number](store, reader)
+    return PART_CALLS[number](store, reader)
 
 
 def answer_or_refusal(store, reader):

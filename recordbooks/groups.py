@@ -1,6 +1,6 @@
 """Groups of readers: members, owners of parts, places."""
 
-from recordbooks.refusals import NotTheOwner, OutOfRange, Outdated
+from recordbooks.refusals import NotAMember, NotTheOwner, OutOfRange, Outdated, ThereAlready
 
 
 def may_stay(shares, owner, quotient, left):
@@ -59,9 +59,13 @@ class Group:
         self.read_up_to = [0 for index in range(part_count)]
 
     def take_in(self, member):
+        if member in self.members:
+            raise ThereAlready()
         self.change_members(sorted(self.members + [member]))
 
     def let_out(self, member):
+        if member not in self.members:
+            raise NotAMember()
         self.change_members([other for other in self.members if other != member])
 
     def change_members(self, members):
@@ -75,6 +79,12 @@ class Group:
 
     def move_kept(self, part, place):
         self.kept[part] = max(self.kept[part], place)
+
+    def keep_place(self, part, place):
+        self.kept[part] = place
+
+    def read_on(self, part, place):
+        self.read_up_to[part] = place
 
     def check_generation(self, generation):
         if generation != self.generation:

@@ -64,6 +64,11 @@ class Part:
                 break
             self.full_segments.pop(0)
 
+    # Only full segments are made tight; their places and the numbers told stay.
+    def let_records_go(self, places):
+        for segment in self.full_segments:
+            segment.records = [record for record in segment.records if record.place not in places]
+
     def flush(self):
         self.on_disk = self.next_place
 

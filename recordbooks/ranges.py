@@ -6,6 +6,8 @@ BILLION = 1000000000
 MOST_IN_TEXT = 400
 MOST_IN_VALUE = 5
 MOST_KEY = 99
+MOST_MARKS = 100
+MOST_TO_READ = 20
 
 
 def check_range(number, least, most):
@@ -31,3 +33,16 @@ def check_text(text):
     check_range(len(text), 0, MOST_IN_TEXT)
     for sign in text:
         check_range(sign, 0, 255)
+
+
+def check_at_least_0(number):
+    if number < 0:
+        raise OutOfRange()
+
+
+def check_how_many(number):
+    check_range(number, 1, MOST_TO_READ)
+
+
+def check_careful(careful):
+    check_range(careful, 0, 1)

@@ -36,6 +36,16 @@ class NumberTooFar(Refusal):
         Refusal.__init__(self, -6)
 
 
+class NotTight(Refusal):
+    def __init__(self):
+        Refusal.__init__(self, -6)
+
+
+class NoneFound(Refusal):
+    def __init__(self):
+        Refusal.__init__(self, -6)
+
+
 class TransactionOpen(Refusal):
     def __init__(self):
         Refusal.__init__(self, -7)
@@ -52,5 +62,10 @@ class Outdated(Refusal):
 
 
 class NotTheOwner(Refusal):
+    def __init__(self):
+        Refusal.__init__(self, -9)
+
+
+class NotAMember(Refusal):
     def __init__(self):
         Refusal.__init__(self, -9)

@@ -1,6 +1,6 @@
 """What is decided, stable, counts and is seen in a part."""
 
-from recordbooks.records import BY_ITSELF, MARK_DONE, MARK_GIVEN_UP, WITHIN
+from recordbooks.records import BY_ITSELF, MARK_DONE, MARK_GIVEN_UP, NO_KEY, WITHIN
 
 
 def decisions(records):
@@ -33,3 +33,12 @@ def seen_records(part):
     decided = decisions(records)
     stable = stable_up_to(part)
     return [record for record in records if record.place < stable and counts(record, decided)]
+
+
+# By key, the last record seen of it.
+def last_seen(part):
+    last = {}
+    for record in seen_records(part):
+        if record.key != NO_KEY:
+            last[record.key] = record
+    return last

@@ -1,14 +1,13 @@
-"""The calls of senders: 7 sender to 12 giveup."""
+"""The calls of senders: 7 sender to 12 giveup, 26 senderat."""
 
-from recordbooks.ranges import check_key, check_range, check_time, check_value
-from recordbooks.records import BY_ITSELF, WITHIN, Record
-from recordbooks.refusals import NumberTooFar, TransactionOpen
-from recordbooks.senders import Move, Sender, Transaction
-from recordbooks.transactions import do_transaction, end_transaction
+from recordbooks.ranges import MOST_MARKS, check_key, check_range, check_time, check_value
+from recordbooks.refusals import NumberTooFar
+from recordbooks.rows import with_rows
+from recordbooks.senders import Move, Sender
+from recordbooks.transactions import do_transaction, end_transaction, send_next
 
 MOST_SENDERS = 8
 MOST_NUMBER = 1000000
-MOST_MARKS = 100
 
 
 def answer_sender(store, reader):
@@ -21,14 +20,6 @@ def answer_sender(store, reader):
         end_transaction(store, sender)
     sender.epoch += 1
     return [sender.epoch]
-
-
-# address is (book, part); the transaction, if one is open, has that part from now on.
-def kind_to_send(sender, address):
-    if sender.transaction is None:
-        return BY_ITSELF
-    sender.transaction.note_part(address)
-    return WITHIN
 
 
 def answer_send(store, reader):
@@ -46,14 +37,12 @@ def answer_send(store, reader):
     check_time(time)
     check_value(value)
     part_place = book.part_for(key)
-    part = book.parts[part_place]
-    places = part.places_told_by(sender_number)
+    places = book.parts[part_place].places_told_by(sender_number)
     if number > len(places) + 1:
         raise NumberTooFar()
     if number <= len(places):
         return [part_place, places[number - 1], 1]
-    kind = kind_to_send(sender, (book_place, part_place))
-    place = part.put_in(Record(time, key, value, sender_number, number, kind))
+    place = send_next(store, sender, (book_place, part_place), key, time, value)
     return [part_place, place, 0]
 
 
@@ -61,9 +50,7 @@ def answer_begin(store, reader):
     number = reader.take_number()
     epoch = reader.take_number()
     sender = store.sender_at(number, epoch)
-    if sender.transaction is not None:
-        raise TransactionOpen()
-    sender.transaction = Transaction()
+    sender.begin_transaction()
     return [0]
 
 
@@ -76,9 +63,7 @@ def answer_place(store, reader):
     part_place = reader.take_number()
     place = reader.take_number()
     transaction = store.sender_within(number, epoch).transaction
-    group = store.group_at(group_number)
-    group.check_generation(generation)
-    group.check_owner(part_place, member)
+    group = store.group_for(group_number, member, generation, part_place)
     part = store.part_at((group.book, part_place))
     group.check_place(part_place, place, part.on_disk)
     transaction.moves.append(Move(group_number, generation, part_place, place))
@@ -108,6 +93,28 @@ def answer_giveup(store, reader):
     return [count]
 
 
+def addresses_row(transaction):
+    row = []
+    for address in transaction.parts:
+        row.extend(list(address))
+    return row
+
+
+def moves_row(transaction):
+    row = []
+    for move in transaction.moves:
+        row.extend([move.group, move.generation, move.part, move.place])
+    return row
+
+
+def answer_senderat(store, reader):
+    sender = store.sender_numbered(reader.take_number())
+    transaction = sender.transaction
+    if transaction is None:
+        return [sender.epoch, 0]
+    return with_rows([sender.epoch, 1], [addresses_row(transaction), moves_row(transaction)])
+
+
 SENDER_CALLS = {
     7: answer_sender,
     8: answer_send,
@@ -115,4 +122,5 @@ SENDER_CALLS = {
     10: answer_place,
     11: answer_done,
     12: answer_giveup,
+    26: answer_senderat,
 }

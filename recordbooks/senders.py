@@ -1,5 +1,7 @@
 """Senders and the transactions that they open."""
 
+from recordbooks.refusals import TransactionOpen
+
 
 class Move:
     # A group's kept place that a transaction is to move.
@@ -28,3 +30,8 @@ class Sender:
         self.number = number
         self.epoch = 0
         self.transaction = None
+
+    def begin_transaction(self):
+        if self.transaction is not None:
+            raise TransactionOpen()
+        self.transaction = Transaction()

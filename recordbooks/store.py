@@ -18,10 +18,13 @@ class Store:
             raise NoSuchBook()
         return self.books[place]
 
-    def sender_at(self, number, epoch):
+    def sender_numbered(self, number):
         if number not in self.senders:
             raise NoSuchSender()
-        sender = self.senders[number]
+        return self.senders[number]
+
+    def sender_at(self, number, epoch):
+        sender = self.sender_numbered(number)
         if sender.epoch != epoch:
             raise Outdated()
         return sender
@@ -37,8 +40,18 @@ class Store:
             raise NoSuchGroup()
         return self.groups[number]
 
+    # The group, if this member has that part in this generation.
+    def group_for(self, number, member, generation, part_place):
+        group = self.group_at(number)
+        group.check_generation(generation)
+        group.check_owner(part_place, member)
+        return group
+
+    # An address is (book, part).
     def part_at(self, address):
-        book = self.books[address[0]]
+        book = self.book_at(address[0])
+        if not 0 <= address[1] < len(book.parts):
+            raise NoSuchBook()
         return book.parts[address[1]]
 
     def all_parts(self):

@@ -1,6 +1,22 @@
-"""How transactions end, also where power is lost."""
+"""What senders put in, and how transactions end, also where power is lost."""
 
-from recordbooks.records import MARK_DONE, MARK_GIVEN_UP, mark_of
+from recordbooks.records import BY_ITSELF, MARK_DONE, MARK_GIVEN_UP, WITHIN, Record, mark_of
+
+
+# The transaction, if one is open, has that part from now on.
+def kind_to_send(sender, address):
+    if sender.transaction is None:
+        return BY_ITSELF
+    sender.transaction.note_part(address)
+    return WITHIN
+
+
+# Puts a record in under the sender's next number there, and gives back its place.
+def send_next(store, sender, address, key, time, value):
+    part = store.part_at(address)
+    number = len(part.places_told_by(sender.number)) + 1
+    kind = kind_to_send(sender, address)
+    return part.put_in(Record(time, key, value, sender.number, number, kind))
 
 
 def mark_first_parts(store, sender, count):

@@ -69,6 +69,62 @@ def group(number, book):
     return [13, number, book]
 
 
+def join(number, member):
+    return [14, number, member]
+
+
+def leave(number, member):
+    return [15, number, member]
+
+
+def fetch(number, member, generation, part, how_many=20, careful=1):
+    return [16, number, member, generation, part, how_many, careful]
+
+
+def keep(number, member, generation, part, told):
+    return [17, number, member, generation, part, told]
+
+
+def groupat(number):
+    return [18, number]
+
+
+def work(group_number, member, generation, part, number, epoch, book, how_many=20, marks=100):
+    return [19, group_number, member, generation, part, number, epoch, book, how_many, marks]
+
+
+def tighten(book):
+    return [20, book]
+
+
+def find(book, part, told):
+    return [21, book, part, told]
+
+
+def findtime(book, part, time):
+    return [22, book, part, time]
+
+
+def read(book, part, told=0, how_many=20, careful=1):
+    return [23, book, part, told, how_many, careful]
+
+
+def map_of(book):
+    return [24, book]
+
+
+def part_at(book, part):
+    return [25, book, part]
+
+
+def senderat(number):
+    return [26, number]
+
+
+def counts():
+    return [27]
+
+
 def joined(calls):
     numbers = []
     for call in calls:
@@ -88,6 +144,16 @@ def parted(numbers):
 
 def run(*calls):
     return parted(answers(joined(calls)))
+
+
+# An answer that has so many numbers before its rows, as those numbers and the rows.
+def with_rows_parted(answer, before):
+    return answer[:before], parted(answer[before:])
+
+
+# The places of the records in an answer of read or fetch, behind where one goes on.
+def places_got(answer):
+    return [answer[0]] + [row[0] for row in parted(answer[1:])]
 
 
 # The answer to the last call alone.
